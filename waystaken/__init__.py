@@ -1,0 +1,1 @@
+"""Ways taken: the first way that fits, and nobody goes back."""
