@@ -128,7 +128,7 @@ class FarTest(unittest.TestCase):
             self.assertEqual(far_takes(Way.read("(a a)* !."), [("a", times)]), None if odd else times)
             self.assertEqual(far_takes(Way.read("(a a a)* a?"), [("a", times)]), times - (times % 3 == 2))
             self.assertEqual(far_takes(Way.read("a* b"), [("a", times), ("b", 1)]), times + 1)
-            # What is done at the begin hangs on the end of the text alone.
+            # What is done at the start hangs on the end of the text alone.
             self.assertEqual(far_takes(Way.read("&((a a)* b) / a"), [("a", times), ("b", 1)]), 1 if odd else 0)
 
     def test_what_is_known_of_a_block_counts_for_the_one_before(self):

@@ -1,4 +1,4 @@
-"""Ways read at every place of a text, from its end to its begin.
+"""Ways read at every place of a text, from its end to its start.
 
 What ways do at a place hangs on the letter there and on little of what they
 do at the next place. Call a part *tried* if what is around it asks whether

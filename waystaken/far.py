@@ -1,6 +1,6 @@
 """Texts that are told by blocks, as long as they may be.
 
-A *leap* over a stretch of text tells where one gets from its begin: a list
+A *leap* over a stretch of text tells where one gets from its start: a list
 with an entry for the slot of each leaf, behind which one goes on there, and a
 last one for the way itself, which begins there. An entry is None if it comes
 to nothing; otherwise a pair: a number of letters, and the number of the entry
@@ -57,7 +57,7 @@ def joined_leaps(first, second):
 
 
 def word_leap(backward, word, state):
-    """The leap over a word, and the state at its begin; state is that behind it."""
+    """The leap over a word, and the state at its start; state is that behind it."""
     leap = empty_leap(backward)
     for letter in word[::-1]:
         steps = backward.steps_at(letter, state)
@@ -67,7 +67,7 @@ def word_leap(backward, word, state):
 
 
 def block_leaps(backward, word, times, state):
-    """The leaps over a word, so many times, and the state at its begin.
+    """The leaps over a word, so many times, and the state at its start.
 
     The last leap comes first. Sooner or later states come again, and with
     them the leaps over the word; from then on whole rounds are one leap.

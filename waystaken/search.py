@@ -6,7 +6,7 @@ from waystaken.backward import HITS, MISSES
 def first_text(signs, begun, grown):
     """The first text that shows it, in the order of texts over signs, or None.
 
-    Texts grow at their begin. Of each one no more is known than its nodes,
+    Texts grow at their start. Of each one no more is known than its nodes,
     which are keys of a dict. begun are the pairs (whether it shows it, node)
     of the empty text; grown(letter, node) tells those of the letter and,
     behind it, a text with this node.
