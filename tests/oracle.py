@@ -111,3 +111,77 @@ def random_way(rng, parts, letters):
     cuts = [0, *sorted(rng.sample(range(1, parts - 1), many - 1)), parts - 1]
     inner = [random_way(rng, high - low, letters) for low, high in zip(cuts, cuts[1:])]
     return rng.choice([Row, Row, Choice])(inner)
+
+
+def inner_of(way):
+    """The ways of which a way is made."""
+    if isinstance(way, (Row, Choice)):
+        return way.ways
+    return (way.part,) if hasattr(way, "part") else ()
+
+
+def paths_of(way):
+    """The pairs of a path and a part, in the order of parts [10]."""
+    pairs = [((), way)]
+    for index, part in enumerate(inner_of(way)):
+        pairs.extend([((index, *path), found) for path, found in paths_of(part)])
+    return pairs
+
+
+def plain_visits(way, text, place=0, path=(), noted=None):
+    """Each (path, place, end) that one comes to when the way is read [40]; end is None if it does not fit there."""
+    noted = [] if noted is None else noted
+    end = place
+
+    def come(index, here):
+        plain_visits(inner_of(way)[index], text, here, (*path, index), noted)
+        return noted[-1][2]
+
+    if isinstance(way, Row):
+        for index in range(len(way.ways)):
+            end = None if end is None else come(index, end)
+    elif isinstance(way, Choice):
+        end = None
+        for index in range(len(way.ways)):
+            end = come(index, place) if end is None else end
+    elif isinstance(way, Again):
+        further = come(0, place)
+        while further is not None and further > end:
+            end = further
+            further = come(0, end)
+    elif isinstance(way, Maybe):
+        further = come(0, place)
+        end = place if further is None else further
+    elif isinstance(way, (Ahead, Unless)):
+        fits = come(0, place) is not None
+        end = place if fits == isinstance(way, Ahead) else None
+    else:
+        end = plain_end(way, text, place)
+    noted.append((path, place, end))
+    return noted
+
+
+def plain_taken(way, text):
+    """The set of (path of a Choice, index) of the ways that are taken [40]."""
+    choices = [path for path, part in paths_of(way) if isinstance(part, Choice)]
+    return {(path[:-1], path[-1]) for path, _, end in plain_visits(way, text)
+            if end is not None and path[:-1] in choices and path}
+
+
+def plain_need(signs, longest, results, first_counts):
+    """The greatest d + 1 that texts with at most so many letters show [50].
+
+    results tells what counts of a text, None if it shows nothing;
+    first_counts(result) tells how many of the first letters count already.
+    """
+    behind = {}
+    for text in all_texts(signs, longest):
+        for size in range(len(text) + 1):
+            behind.setdefault(text[:size], set()).add(results(text))
+    need = 0
+    for text in all_texts(signs, longest):
+        if results(text) is not None:
+            for size in range(first_counts(results(text)), len(text) + 1):
+                if behind[text[:size]] != {results(text)}:
+                    need = max(need, size - first_counts(results(text)) + 1)
+    return need

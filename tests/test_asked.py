@@ -1,8 +1,8 @@
-"""[2], [80], Part 4: which ways may be asked, which error comes first, and arguments."""
+"""[2], [80], Parts 3 to 5: which ways may be asked, which error comes first, and arguments."""
 
 import unittest
 
-from waystaken import alltexts, reading
+from waystaken import alltexts, choices, reading
 from waystaken.errors import BadName, TooMany
 from waystaken.ways import Again, Call, Choice, Letter, Row, Way
 
@@ -17,6 +17,7 @@ ONE_WAY = {
     "counted": lambda way: alltexts.counted("ab", way, 2),
     "lost": lambda way: alltexts.lost("ab", way),
     "lost_whole": lambda way: alltexts.lost_whole("ab", way),
+    "taken_ways": lambda way: choices.taken_ways("ab", way),
 }
 TWO_WAYS = [alltexts.apart, alltexts.beyond, alltexts.uncovered, alltexts.fit_both, alltexts.whole_apart]
 

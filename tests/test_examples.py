@@ -4,8 +4,8 @@ import os
 import re
 import unittest
 
-# The examples of what is built so far, by the modules from which they import.
-BUILT = ("waystaken.ways", "waystaken.reading", "waystaken.alltexts")
+from waystaken.errors import WayError
+
 DOC = os.path.join(os.path.dirname(__file__), "..", "..", "shared", "DOC.md")
 
 EXAMPLES = r"""
@@ -41,6 +41,31 @@ EXAMPLES = r"""
 >>> one, other = Way.read("a / a a"), Way.read("a a / b")
 >>> (whole_apart("ab", one, other), lost_whole("ab", one))
 ('a', 'aa')
+
+>>> from waystaken.choices import enough, orders, shorter, taken_ways
+>>> from waystaken.ways import Way
+>>> way = Way.read("a / a b / b")
+>>> (taken_ways("ab", way), orders("ab", way), enough("ab", way), shorter("ab", way))
+([((), 0, 'a'), ((), 1, None), ((), 2, 'b')], [(0, 1, 2), (0, 2, 1), (2, 0, 1)], [(0, 1, 2), (0, 2)], 'ab')
+
+>>> from waystaken.seeing import Endless, look, settles
+>>> from waystaken.ways import Way
+>>> (look("ab", Way.read("a*")).need, isinstance(look("ab", Way.read("a* b / a")), Endless), settles("ab", Way.read("a b")).need)
+(1, True, 2)
+
+>>> from waystaken.seeing import Look, is_look, is_settled
+>>> from waystaken.ways import Way
+>>> (is_look(Way.read("a*"), Look(1, "a", "aa")), is_look(Way.read("a*"), Look(1, "a", "")), is_settled(Way.read("a b"), Look(2, "ab", "aa")))
+(True, False, True)
+
+>>> from waystaken.books import Book
+>>> book = Book.read("sign = a / b\nword = <sign> <sign>*")
+>>> (len(book), str(book.way("word")), "text" in book)
+(2, '(a / b) (a / b)*', False)
+
+>>> from waystaken.books import Book
+>>> Book.read("x = a\ny = <x> )")
+raises BadText
 """
 
 
@@ -54,10 +79,15 @@ class ExamplesTest(unittest.TestCase):
         *before, last = [row.removeprefix(">>> ") for row in rows.splitlines()]
         names = {}
         exec("\n".join(before), names)
-        self.assertEqual(repr(eval(last, names)), told)
+        if told.startswith("raises "):
+            with self.assertRaises(WayError) as caught:
+                eval(last, names)
+            self.assertEqual(caught.exception.__class__.__name__, told.removeprefix("raises "))
+        else:
+            self.assertEqual(repr(eval(last, names)), told)
 
     def test_examples(self):
-        self.assertEqual(len(blocks_of(EXAMPLES)), 6)
+        self.assertEqual(len(blocks_of(EXAMPLES)), 11)
         for rows, told in blocks_of(EXAMPLES):
             self.assert_example(rows, told)
 
@@ -65,9 +95,8 @@ class ExamplesTest(unittest.TestCase):
     def test_examples_as_they_stand_in_the_document(self):
         with open(DOC, encoding="utf-8") as file:
             blocks = blocks_of(file.read())
-        built = [block for block in blocks if block[0].split()[2] in BUILT]
-        self.assertEqual(len(built), 6)
-        for rows, told in built:
+        self.assertTrue(blocks)
+        for rows, told in blocks:
             self.assert_example(rows, told)
 
 

@@ -8,13 +8,25 @@ TOP = os.path.dirname(os.path.dirname(os.path.abspath(__file__)))
 PACKAGE = os.path.join(TOP, "waystaken")
 LIBRARY = {"heapq", "math", "itertools", "collections"}
 
-# What the interface lists and has been asked for, by the files that define it.
+# What the interface lists, by the files that define it.
 INTERFACE = {
     "errors": ["WayError", "BadText", "BadName", "TooMany", "NotKept", "NothingLeft", "Busy"],
     "ways": ["Way", "Letter", "One", "Nothing", "Row", "Choice", "Again", "Maybe", "Ahead", "Unless", "Call"],
     "reading": ["takes", "far_takes", "ends"],
     "alltexts": ["apart", "beyond", "uncovered", "fit_both", "whole", "whole_apart", "fails", "counted", "lost",
                  "lost_whole"],
+    "choices": ["taken_ways", "orders", "enough", "shorter"],
+    "seeing": ["Look", "Endless", "look", "settles", "is_look", "is_settled"],
+    "books": ["Book"],
+    "desks": ["Desk"],
+}
+
+# The methods that it lists for a class; operators as the methods that stand for them.
+METHODS = {
+    "ways": {"Way": ["__eq__", "__add__", "__or__", "__str__", "__len__", "read", "at"]},
+    "books": {"Book": ["__getitem__", "__contains__", "__len__", "__iter__", "__eq__", "__str__", "way", "read"]},
+    "desks": {"Desk": ["signs", "book", "guards", "undoable", "redoable", "put", "drop", "keep", "free", "undo", "redo",
+                       "trial", "tried"]},
 }
 
 
@@ -76,6 +88,15 @@ class LayoutTest(unittest.TestCase):
             defined = [node.name for node in trees[module].body if isinstance(node, (ast.FunctionDef, ast.ClassDef))]
             for name in names:
                 self.assertIn(name, defined)
+
+    def test_methods_stand_in_their_class_itself(self):
+        trees = {name[:-3]: tree for name, _, tree in files()}
+        for module, classes in METHODS.items():
+            for node in trees[module].body:
+                if isinstance(node, ast.ClassDef) and node.name in classes:
+                    defined = [part.name for part in node.body if isinstance(part, ast.FunctionDef)]
+                    for name in classes[node.name]:
+                        self.assertIn(name, defined)
 
 
 if __name__ == "__main__":

@@ -1,6 +1,7 @@
 """[11], [20], [21], [22]: reading one text, short or far."""
 
 import random
+import sys
 import unittest
 
 from tests.oracle import all_texts, plain_ends, plain_takes, random_way
@@ -35,6 +36,17 @@ TAKEN = [
 def written_out(blocks):
     """The text that these blocks tell."""
     return "".join([word * times for word, times in blocks])
+
+
+def calls_of(action):
+    """How many Python functions are called when action() is."""
+    calls = []
+    sys.setprofile(lambda frame, event, argument: calls.append(frame) if event == "call" else None)
+    try:
+        action()
+    finally:
+        sys.setprofile(None)
+    return len(calls)
 
 
 class TakesTest(unittest.TestCase):
@@ -91,6 +103,63 @@ class TakesTest(unittest.TestCase):
         while len(way) < 60:
             way = Choice([Row([way, Letter("b")]), Again(Letter("a"))])
         self.assertEqual(takes(way, "a" * 200), 200)
+
+    def assert_short_work(self, way, text, taken):
+        """What is taken, and that no part is read much more often than there are places."""
+        told = []
+        calls = calls_of(lambda: told.append(takes(way, text)))
+        self.assertEqual(told, [taken])
+        self.assertLess(calls, 4 * len(way) * (len(text) + 1), (str(way), len(text)))
+
+    def test_long_and_nested_rounds_are_short_work(self):
+        for text, way in [
+                ("a" * 200, ".*"), ("a" * 200, "a*"), ("a" * 200, "((.* .)* .)*"), ("a" * 200, "((.* .)*)*"),
+                ("a" * 200, "((a*)* a)*"), ("ab" * 100, "((a* b)* a)*"), ("a" * 200, "(!(.* b) .)*"),
+                ("a" * 199 + "b", "(!(a* c) a)*"), ("ab" * 100, "(&(a* b) .)*"), ("a" * 200, "((a? a?)* b?)*"),
+                ("a" * 200, "((a / a a)* a)*"), ("ab" * 100, "((a b)* (b a)*)*"), ("a" * 200, "(a*)* b / (a*)*"),
+                ("a" * 200, "a****"), ("b" * 200, "((a*)* b)*"), ("a" * 200, "(!((a* a)*) a)*")]:
+            self.assert_short_work(Way.read(way), text, far_takes(Way.read(way), [(text, 1)]))
+
+    def test_big_nested_rounds_are_short_work(self):
+        way = Again(One())
+        while len(way) < 62:
+            way = Again(Row([way, One()]))
+        self.assert_short_work(way, "ab" * 100, 200)
+        way = Again(One())
+        while len(way) < 60:
+            way = Again(Row([Unless(Row([way, Letter("c")])), One()]))
+        self.assert_short_work(way, "ab" * 100, 200)
+        way = Letter("a")
+        while len(way) < 63:
+            way = Again(Maybe(way))
+        self.assert_short_work(way, "a" * 200, 200)
+        self.assert_short_work(way, "b" * 200, 0)
+        self.assert_short_work(Again(Row([*[Unless(Row([Again(One()), One()]))] * 12, One()])), "a" * 200, 200)
+
+    def test_the_same_rounds_in_more_places(self):
+        # One part stands at several places; what it takes there is the same.
+        part = Again(Letter("a"))
+        way = Again(Row([part, Letter("b"), part, Maybe(Again(part))]))
+        for text in all_texts("ab", 7):
+            for place in range(len(text) + 1):
+                self.assertEqual(takes(way, text, place), plain_takes(way, text, place))
+                plain = sorted(end - place for end in plain_ends(way, text, place))
+                self.assertEqual(ends(way, text, place), plain)
+
+    def test_nothing_is_remembered_of_other_texts(self):
+        way = Way.read("((a* b)* c)*")
+        for text in ["aabc", "abc", "aabbc", "c", "bcbc", "aabc"]:
+            self.assertEqual(takes(way, text), plain_takes(way, text))
+            self.assertEqual(takes(way, text, 1), plain_takes(way, text, 1))
+
+    def test_short_texts_are_very_short_work(self):
+        # Only what one comes to is read, and nothing beside it.
+        for way, text, taken, most in [
+                ("((a b? / !b .)* c / &(a b) .) b", "abca", 2, 60), ("((a b)? c)* / a* b", "abcab", 3, 30),
+                ("((a b)? c)* / a* b", "a" * 30, 0, 15), ("(a b)? c*", "abca", 3, 15)]:
+            way = Way.read(way)
+            self.assertEqual(takes(way, text), taken)
+            self.assertLessEqual(calls_of(lambda: takes(way, text)), most, (str(way), text))
 
 
 class FarTest(unittest.TestCase):

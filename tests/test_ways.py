@@ -4,21 +4,12 @@ import itertools
 import random
 import unittest
 
-from tests.oracle import random_way
+from tests.oracle import paths_of, random_way
 from waystaken.ways import (
     Again, Ahead, Call, Choice, Letter, Maybe, Nothing, One, Row, Unless, Way)
 
 A = Letter("a")
 B = Letter("b")
-
-
-def plain_parts(way):
-    """The pairs of a path and a part, in the order of parts [10]."""
-    pairs = [((), way)]
-    inner = way.ways if isinstance(way, (Row, Choice)) else (way.part,) if hasattr(way, "part") else ()
-    for index, part in enumerate(inner):
-        pairs.extend([((index, *path), found) for path, found in plain_parts(part)])
-    return pairs
 
 
 def samples():
@@ -124,7 +115,7 @@ class WaysTest(unittest.TestCase):
         rng = random.Random(5)
         for _ in range(200):
             way = random_way(rng, rng.randint(1, 64), "abc")
-            pairs = plain_parts(way)
+            pairs = paths_of(way)
             self.assertEqual(len(way), len(pairs))
             for path, part in pairs:
                 self.assertIs(way.at(path), part)

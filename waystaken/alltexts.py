@@ -1,28 +1,24 @@
 """What ways do for all texts over some signs, of any length."""
 
-from waystaken.backward import FITS, HITS, MISSES, Backward
+from waystaken.backward import FITS, HITS, MISSES, asked
 from waystaken.loose import Loose
-from waystaken.parts import refuse_calls, refuse_parts
+from waystaken.parts import MOST_PARTS
 from waystaken.search import count_results, first_marked, first_plain, first_text
-
-MOST_PARTS = 10
-
-
-def asked(ways):
-    """The ways, ready to be read backward, if they may be asked at all."""
-    refuse_calls(ways)
-    refuse_parts(ways, MOST_PARTS)
-    return Backward(ways)
 
 
 def apart(signs, one, other):
     """The first text of which the ways do not take the same, None if they are alike."""
-    return first_marked(signs, asked([one, other]), lambda told: told[0] != told[1])
+    return first_ending(signs, [one, other], lambda told: told[0] != told[1])
 
 
 def beyond(signs, one, other):
     """The first text of which other does not take what one takes, or None."""
-    return first_marked(signs, asked([one, other]), lambda told: told[0] == HITS and told[1] != HITS)
+    return first_ending(signs, [one, other], lambda told: told[0] == HITS and told[1] != HITS)
+
+
+def first_ending(signs, ways, wanted):
+    """The first text with a place for which wanted(results) holds: HITS for ways that end there, or MISSES."""
+    return first_marked(signs, asked(ways, MOST_PARTS), (MISSES, HITS, MISSES), wanted)
 
 
 def uncovered(signs, one, other):
@@ -42,7 +38,7 @@ def fails(signs, way):
 
 def first_fitting(signs, ways, wanted):
     """The first text for which wanted(results) holds: FITS or MISSES for each way."""
-    return first_plain(signs, asked(ways), FITS, FITS, wanted)
+    return first_plain(signs, asked(ways, MOST_PARTS), FITS, FITS, wanted)
 
 
 def whole(signs, way):
@@ -57,12 +53,12 @@ def whole_apart(signs, one, other):
 
 def first_whole(signs, ways, wanted):
     """The first text for which wanted(results) holds: HITS if it is taken whole, or MISSES."""
-    return first_plain(signs, asked(ways), HITS, MISSES, wanted)
+    return first_plain(signs, asked(ways, MOST_PARTS), HITS, MISSES, wanted)
 
 
 def counted(signs, way, n):
     """How many texts of n letters are taken whole, fit only, and do not fit."""
-    return tuple(count_results(signs, asked([way]), n, HITS, FITS))
+    return tuple(count_results(signs, asked([way], MOST_PARTS), n, HITS, FITS))
 
 
 def lost(signs, way):
@@ -81,7 +77,7 @@ def first_lost(signs, way, at_end, elsewhere):
     at_end and elsewhere are the ranks of the way if it ends at the end of the
     text, and at other places; MISSES if such an end does not count.
     """
-    backward = asked([way])
+    backward = asked([way], MOST_PARTS)
     loose = Loose(backward)
 
     def turned(letter, node, worth):

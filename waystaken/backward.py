@@ -23,7 +23,7 @@ takes nothing), or the slot of the leaf that takes the letter here.
 """
 
 from waystaken.kinds import AGAIN, AHEAD, CHOICE, LETTER, MAYBE, NOTHING, ONE, ROW, UNLESS
-from waystaken.parts import Parts
+from waystaken.parts import Parts, refuse_calls, refuse_parts
 
 FAILS = -2
 ENDS = -1
@@ -32,6 +32,13 @@ ENDS = -1
 HITS = 0
 FITS = 1
 MISSES = 2
+
+
+def asked(ways, most):
+    """The ways, ready to be read backward, if they may be asked with at most so many parts."""
+    refuse_calls(ways)
+    refuse_parts(ways, most)
+    return Backward(ways)
 
 
 def are_tried(parts):
@@ -153,6 +160,11 @@ class Backward:
             else:
                 results.append(worth if step == ENDS else MISSES)
         return results
+
+    def turned(self, letter, state, worth):
+        """The results at a place with this letter, a tuple, and the state there."""
+        steps = self.steps_at(letter, state)
+        return tuple(self.results_at(steps, state, worth)), self.state_at(steps, state, worth)
 
 
 def first_step(numbers, steps):

@@ -1,16 +1,18 @@
 """The parts of ways as lists, and what is asked of ways first of all."""
 
 from waystaken.errors import BadName, TooMany
-from waystaken.kinds import CALL, ROW
-from waystaken.ways import kind_of, made_of, parts_of, word_of
+from waystaken.kinds import ROW
+from waystaken.ways import kind_of, made_of, word_of
+
+# What is asked of all texts, or of far ones, is asked of small ways.
+MOST_PARTS = 10
 
 
 def refuse_calls(ways):
     """Raise BadName with the first call in these ways."""
     for way in ways:
-        for part in parts_of(way):
-            if kind_of(part) == CALL:
-                raise BadName(part.name)
+        if way.called is not None:
+            raise BadName(way.called)
 
 
 def refuse_parts(ways, most):
@@ -60,3 +62,18 @@ class Parts:
             for earlier in self.inner[above]:
                 self.later[earlier].append(number)
         self.inner[above].append(number)
+
+    def path_of(self, part):
+        """The path of a part in its whole way."""
+        path = ()
+        while self.above[part] >= 0:
+            path = (self.inner[self.above[part]].index(part), *path)
+            part = self.above[part]
+        return path
+
+    def number_at(self, path):
+        """The number of the part of the first way that has this path."""
+        number = self.wholes[0]
+        for index in path:
+            number = self.inner[number][index]
+        return number

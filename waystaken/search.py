@@ -1,6 +1,6 @@
 """The first text that shows something, and how many do."""
 
-from waystaken.backward import HITS, MISSES
+from waystaken.backward import HITS
 
 
 def first_text(signs, begun, grown):
@@ -35,6 +35,24 @@ def first_text(signs, begun, grown):
     return None
 
 
+def all_told(signs, begun, grown):
+    """All that is told of texts, each thing once.
+
+    begun and grown are as in first_text, but with pairs (what is told, node).
+    """
+    told = {}
+    seen = {}
+    todo = list(begun)
+    while todo:
+        what, node = todo.pop()
+        told[what] = True
+        if node not in seen:
+            seen[node] = True
+            for letter in signs:
+                todo.extend(grown(letter, node))
+    return list(told)
+
+
 def first_plain(signs, backward, at_end, elsewhere, wanted):
     """The first text for which wanted(results) holds at place 0, or None.
 
@@ -42,32 +60,49 @@ def first_plain(signs, backward, at_end, elsewhere, wanted):
     the text, and at other places.
     """
     def turned(letter, state, worth):
-        steps = backward.steps_at(letter, state)
-        results = backward.results_at(steps, state, worth)
-        return [(wanted(results), backward.state_at(steps, state, worth))]
+        results, ranks = backward.turned(letter, state, worth)
+        return [(wanted(results), ranks)]
 
     return first_text(signs, turned("", (), at_end), lambda letter, state: turned(letter, state, elsewhere))
 
 
-def first_marked(signs, backward, wanted):
+def marked_turns(backward, letter, node, worths):
+    """What may be told of a place, if some place of a text is marked: pairs of results and nodes.
+
+    worths are the ranks of whole ways that end behind the marked place, there,
+    and ahead of it; the first two are not the same. The node is that of the
+    next place: the state, and whether the mark is there or behind it.
+    """
+    behind, there, ahead = worths
+    state, marked = node
+    pairs = []
+    for worth in ([ahead] if marked else [behind, there]):
+        results, ranks = backward.turned(letter, state, worth)
+        past = marked or worth == there
+        # From the mark on a state that leads nobody to a HITS is of no use.
+        if not past or HITS in results or HITS in ranks:
+            pairs.append((results, (ranks, past)))
+    return pairs
+
+
+def first_marked(signs, backward, worths, wanted):
     """The first text that has a place for which wanted(results) holds, or None.
 
-    results are HITS for whole ways that end at this place, MISSES for the
-    others; wanted holds only if there is a HITS among them.
+    worths are as in marked_turns; wanted holds only if there is a HITS among
+    the results.
     """
     def turned(letter, node):
-        state, marked = node
-        steps = backward.steps_at(letter, state)
-        pairs = []
-        for worth in ([MISSES] if marked else [MISSES, HITS]):
-            ranks = backward.state_at(steps, state, worth)
-            shown = wanted(backward.results_at(steps, state, worth))
-            # Behind the mark a state that leads nobody there is of no use.
-            if shown or HITS in ranks or not (marked or worth == HITS):
-                pairs.append((shown, (ranks, marked or worth == HITS)))
-        return pairs
+        return [(wanted(results), further) for results, further in marked_turns(backward, letter, node, worths)]
 
     return first_text(signs, turned("", ((), False)), turned)
+
+
+def all_marked(signs, backward, worths):
+    """All results of texts with a marked place; worths are as in marked_turns."""
+    def turned(letter, node):
+        return marked_turns(backward, letter, node, worths)
+
+    return all_told(signs, turned("", ((), False)), turned)
 
 
 def count_results(signs, backward, length, at_end, elsewhere):
@@ -76,21 +111,16 @@ def count_results(signs, backward, length, at_end, elsewhere):
     A list with the numbers for the results HITS, FITS and MISSES.
     """
     turns = {}
-
-    def turned(letter, state, worth):
-        steps = backward.steps_at(letter, state)
-        return backward.results_at(steps, state, worth)[0], backward.state_at(steps, state, worth)
-
-    counts = {turned("", (), at_end): 1}
+    counts = {backward.turned("", (), at_end): 1}
     for _ in range(length):
         longer = {}
         for (_, state), many in counts.items():
             if state not in turns:
-                turns[state] = [turned(letter, state, elsewhere) for letter in signs]
+                turns[state] = [backward.turned(letter, state, elsewhere) for letter in signs]
             for node in turns[state]:
                 longer[node] = longer.get(node, 0) + many
         counts = longer
     totals = [0, 0, 0]
-    for (result, _), many in counts.items():
-        totals[result] += many
+    for (results, _), many in counts.items():
+        totals[results[0]] += many
     return totals

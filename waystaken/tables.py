@@ -1,94 +1,31 @@
-"""Where each part of a way ends, for each place of a short text."""
+"""Where ways might end if one might go back, for each place of a short text.
 
-from waystaken.kinds import AGAIN, AHEAD, CHOICE, LETTER, MAYBE, NOTHING, ONE, ROW
+Places are told by the bits of a number: bit 5 is place 5.
+"""
 
-NOWHERE = -1
-
-
-def end_tables(parts, text):
-    """For each part and place: where it ends there, NOWHERE if it does not fit."""
-    tables = [[] for _ in parts.kinds]
-    for part in reversed(range(len(parts.kinds))):
-        inner = [tables[number] for number in parts.inner[part]]
-        tables[part] = ends_of_part(parts.kinds[part], parts.words[part], inner, text)
-    return tables
+from waystaken.kinds import AGAIN, CHOICE, MAYBE, ROW
+from waystaken.ways import NOWHERE, kind_of, made_of
 
 
-def ends_of_part(kind, letter, inner, text):
-    """The ends of a part, told by those of the parts of which it is made."""
+def all_ends(way, text, known):
+    """For each place of the text: where the way might end there.
+
+    known is what Agains remember of this text [ways].
+    """
+    kind = kind_of(way)
     places = range(len(text) + 1)
-    if kind == LETTER:
-        return [place + 1 if text[place:place + 1] == letter else NOWHERE for place in places]
-    if kind == ONE:
-        return [place + 1 if place < len(text) else NOWHERE for place in places]
-    if kind == NOTHING:
-        return list(places)
-    if kind == ROW:
-        return [end_of_row(inner, place) for place in places]
-    if kind == CHOICE:
-        return [end_of_choice(inner, place) for place in places]
-    if kind == AGAIN:
-        return ends_of_again(inner[0])
-    if kind == MAYBE:
-        return [max(inner[0][place], place) for place in places]
-    fitting = kind == AHEAD
-    return [place if (inner[0][place] != NOWHERE) == fitting else NOWHERE for place in places]
-
-
-def end_of_row(inner, place):
-    """Where a Row ends."""
-    end = place
-    for ends in inner:
-        if end != NOWHERE:
-            end = ends[end]
-    return end
-
-
-def end_of_choice(inner, place):
-    """Where a Choice ends."""
-    for ends in inner:
-        if ends[place] != NOWHERE:
-            return ends[place]
-    return NOWHERE
-
-
-def ends_of_again(ends):
-    """Where an Again ends at each place, told by the ends of its part."""
-    result = list(range(len(ends)))
-    for place in reversed(range(len(ends))):
-        if ends[place] > place:
-            result[place] = result[ends[place]]
-    return result
-
-
-def all_end_tables(parts, text):
-    """For each part and place: where it might end if one might go back.
-
-    Places are told by the bits of a number: bit 5 is place 5.
-    """
-    tables = end_tables(parts, text)
-    spread = [[] for _ in tables]
-    for part in reversed(range(len(tables))):
-        inner = [spread[number] for number in parts.inner[part]]
-        spread[part] = all_ends_of_part(parts.kinds[part], inner, tables[part])
-    return spread
-
-
-def all_ends_of_part(kind, inner, ends):
-    """All ends of a part, told by those of the parts of which it is made.
-
-    ends are those that it has if nobody goes back.
-    """
-    places = range(len(ends))
-    if kind == ROW:
-        return [all_ends_of_row(inner, place) for place in places]
-    if kind == CHOICE:
-        return [all_ends_of_choice(inner, place) for place in places]
-    if kind == AGAIN:
-        return all_ends_of_again(inner[0])
-    if kind == MAYBE:
+    if kind in (ROW, CHOICE, AGAIN, MAYBE):
+        inner = [all_ends(part, text, known) for part in made_of(way)]
+        if kind == ROW:
+            return [all_ends_of_row(inner, place) for place in places]
+        if kind == CHOICE:
+            return [all_ends_of_choice(inner, place) for place in places]
+        if kind == AGAIN:
+            return all_ends_of_again(inner[0])
         return [inner[0][place] | (1 << place) for place in places]
-    return [0 if end == NOWHERE else 1 << end for end in ends]
+    # The others do what they do if nobody goes back.
+    only = [way.end_at(text, place, known) for place in places]
+    return [0 if end == NOWHERE else 1 << end for end in only]
 
 
 def all_ends_of_row(inner, place):

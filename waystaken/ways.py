@@ -1,11 +1,34 @@
-"""Ways, of what they are made, and their texts."""
+"""Ways, of what they are made, how they are read, and their texts."""
 
 from waystaken.kinds import AGAIN, AHEAD, CALL, CHOICE, LETTER, MAYBE, NOTHING, ONE, ROW, UNLESS
 from waystaken.scanning import Scan
 
+NOWHERE = -1
+
+
+class Mark:
+    """Tells an Again from all others, equal ones, too, as a key of a dict."""
+
 
 class Way:
-    """What all ways have in common."""
+    """What all ways have in common.
+
+    Beside what it is made of, a way notes the name of its first call, None if
+    there is none, and how many Agains stand within one another in it.
+    """
+
+    def __init__(self, inner):
+        calls = [part.called for part in inner if part.called is not None]
+        self.called = calls[0] if calls else None
+        self.rounds = max([part.rounds for part in inner], default=0)
+
+    def end_at(self, text, place, known):
+        """Where the way ends that is read at the place, NOWHERE if it does not fit.
+
+        known is None, or what Agains remember of this text: for the mark of
+        each a dict of places and ends. Ways with calls are not read.
+        """
+        raise NotImplementedError()
 
     @classmethod
     def read(cls, text):
@@ -42,15 +65,31 @@ class Letter(Way):
     """Takes this letter."""
 
     def __init__(self, letter):
+        Way.__init__(self, [])
         self.letter = letter
+
+    def end_at(self, text, place, known):
+        return place + 1 if text[place:place + 1] == self.letter else NOWHERE
 
 
 class One(Way):
     """Takes one letter, whichever it is."""
 
+    def __init__(self):
+        Way.__init__(self, [])
+
+    def end_at(self, text, place, known):
+        return place + 1 if place < len(text) else NOWHERE
+
 
 class Nothing(Way):
     """Fits always and takes nothing."""
+
+    def __init__(self):
+        Way.__init__(self, [])
+
+    def end_at(self, text, place, known):
+        return place
 
 
 class Row(Way):
@@ -58,6 +97,14 @@ class Row(Way):
 
     def __init__(self, ways):
         self.ways = tuple(ways)
+        Way.__init__(self, self.ways)
+
+    def end_at(self, text, place, known):
+        for part in self.ways:
+            place = part.end_at(text, place, known)
+            if place == NOWHERE:
+                return NOWHERE
+        return place
 
 
 class Choice(Way):
@@ -65,41 +112,96 @@ class Choice(Way):
 
     def __init__(self, ways):
         self.ways = tuple(ways)
+        Way.__init__(self, self.ways)
+
+    def end_at(self, text, place, known):
+        for part in self.ways:
+            end = part.end_at(text, place, known)
+            if end != NOWHERE:
+                return end
+        return NOWHERE
 
 
 class Again(Way):
     """Its part as often as it fits and takes letters."""
 
     def __init__(self, part):
+        Way.__init__(self, [part])
         self.part = part
+        self.rounds = part.rounds + 1
+        self.mark = Mark()
+
+    def end_at(self, text, place, known):
+        if known is not None:
+            return self.known_end(text, place, known)
+        # Each of its rounds may come to the Agains within it at the same
+        # places again, so these remember how they end.
+        if self.rounds > 1:
+            known = {}
+        end = self.part.end_at(text, place, known)
+        while end > place:
+            place = end
+            end = self.part.end_at(text, place, known)
+        return place
+
+    def known_end(self, text, place, known):
+        """Where it ends; all rounds up to one that is known end there, too."""
+        ends = known.setdefault(self.mark, {})
+        begun = []
+        while place not in ends:
+            begun.append(place)
+            end = self.part.end_at(text, place, known)
+            if end > place:
+                place = end
+            else:
+                ends[place] = place
+        last = ends[place]
+        for start in begun:
+            ends[start] = last
+        return last
 
 
 class Maybe(Way):
     """Its part if it fits, or else nothing."""
 
     def __init__(self, part):
+        Way.__init__(self, [part])
         self.part = part
+
+    def end_at(self, text, place, known):
+        end = self.part.end_at(text, place, known)
+        return place if end == NOWHERE else end
 
 
 class Ahead(Way):
     """Fits where its part fits, and takes nothing."""
 
     def __init__(self, part):
+        Way.__init__(self, [part])
         self.part = part
+
+    def end_at(self, text, place, known):
+        return NOWHERE if self.part.end_at(text, place, known) == NOWHERE else place
 
 
 class Unless(Way):
     """Fits where its part does not fit, and takes nothing."""
 
     def __init__(self, part):
+        Way.__init__(self, [part])
         self.part = part
+
+    def end_at(self, text, place, known):
+        return place if self.part.end_at(text, place, known) == NOWHERE else NOWHERE
 
 
 class Call(Way):
     """Stands for the way of the rule with this name."""
 
     def __init__(self, name):
+        Way.__init__(self, [])
         self.name = name
+        self.called = name
 
 
 def kind_of(way):
