@@ -258,7 +258,8 @@ class ShorterTest(unittest.TestCase):
                 ("ba", "() / .", "b"), ("ab", "a / b / a*", "aa"), ("ab", "a* / .", "b"), ("ab", "a* / b / a a", "b"),
                 ("ab", "!() / a", None), ("ab", "a / c c", None), ("abc", "c / c c", "cc"), ("ab", "() / !a", None),
                 ("ab", "a b / a / a .", "aa"), ("ab", "a a / a / a a b", "aab"), ("ab", "a / . . . . .", "aaaaa"),
-                ("ba", ". / &(a b) . .", "ab")]:
+                ("ba", ". / &(a b) . .", "ab"), ("ab", "a / a a &b", "aab"),
+                ("ba", "a &(. .) / a a", "aab"), ("ab", "b / a !. / a*", None), ("ab", "b / a . / a*", "aaa")]:
             self.assertEqual(shorter(signs, read(way)), text, (signs, way))
 
     def test_against_all_short_texts(self):

@@ -1,13 +1,12 @@
 """Whether a way of a Choice is taken, read backward beside the ranks.
 
-Call this way the *target*. When one comes to a part at a place, some things
-are read there before the part itself takes a letter: ways that do not fit,
-looks, parts that take nothing. The part is *met* if the target is taken among
-these. Then a leaf takes the letter, and one goes on behind it at the next
-place, at most up to the end of what is around it or until this fails. So of
-the next place one flag for each leaf has to be known: whether the target is
-taken in what is read behind the leaf. As the target fits as soon as one has
-come to its end, it is noted there that it is taken.
+Call this way the *target*. A part *leads* to it at a place if, when one comes
+to the part there, the target is taken in what is read from then on: in the
+part, and behind it as far as this goes on. It ends where a look ends, and
+where something fails, as then one goes on with what is around that, from
+where it has begun. So of the next place a flag for each leaf has to be known:
+whether what is read behind the leaf leads to the target. The target fits as
+soon as one has come to its end, so it is noted there that it is taken.
 """
 
 from waystaken.backward import ENDS, MISSES
@@ -28,48 +27,37 @@ class Taking:
         def turned(letter, node):
             state, flags = node
             steps = self.backward.steps_at(letter, state)
-            met = self.met_at(steps, state, flags)
-            behind = tuple([self.is_behind(leaf, steps, flags, met) for leaf in self.backward.leaves])
-            shown = met[0] or leads(steps[0], flags)
-            return [(shown, (self.backward.state_at(steps, state, MISSES), behind))]
+            leading = self.leading_at(steps, state, flags)
+            behind = tuple([self.is_behind(leaf, steps, leading) for leaf in self.backward.leaves])
+            return [(leading[0], (self.backward.state_at(steps, state, MISSES), behind))]
 
         return first_text(signs, turned("", ((), ())), turned)
 
-    def met_at(self, steps, state, flags):
-        """Whether each part is met at the place with these steps, a list.
+    def leading_at(self, steps, state, flags):
+        """Whether each part leads to the target at the place with these steps, a list.
 
         state and flags are those of the next place.
         """
-        met = [False for _ in steps]
+        leading = [step >= 0 and flags[step] for step in steps]
         for part in reversed(range(len(steps))):
-            met[part] = self.is_met(part, steps, state, flags, met)
-        return met
+            if self.parts.inner[part]:
+                leading[part] = self.is_leading(part, steps, state, leading)
+        return leading
 
-    def is_met(self, part, steps, state, flags, met):
-        """Whether a part is met, told by the parts of which it is made."""
+    def is_leading(self, part, steps, state, leading):
+        """Whether a part leads to the target, told by the parts of which it is made."""
         kind = self.parts.kinds[part]
-        inner = self.parts.inner[part]
-        for number in inner:
-            if met[number]:
+        for number in self.parts.inner[part]:
+            if leading[number]:
                 return True
-            if kind == ROW:
-                if steps[number] != ENDS:
-                    return False
-            elif self.is_gone_with(kind, number, number == inner[-1], steps, state):
+            if kind == ROW and steps[number] != ENDS:
+                return False
+            if kind == CHOICE and self.backward.is_fit(number, state, steps):
                 return number == self.target and steps[number] == ENDS
-            elif leads(steps[number], flags):
-                return True
         return False
 
-    def is_gone_with(self, kind, number, is_last, steps, state):
-        """Whether a part around this one, of this kind, takes what it takes, if it fits."""
-        if kind in (AHEAD, UNLESS):
-            return False
-        # What the last way of a Choice does, the Choice does, too.
-        return (kind == CHOICE and is_last) or self.backward.is_fit(number, state, steps)
-
-    def is_behind(self, leaf, steps, flags, met):
-        """Whether the target is taken in what is read behind the leaf at the place."""
+    def is_behind(self, leaf, steps, leading):
+        """Whether what is read behind the leaf, from the place on, leads to the target."""
         part = leaf
         while part != self.target and self.parts.above[part] >= 0:
             above = self.parts.above[part]
@@ -77,14 +65,9 @@ class Taking:
             if kind in (AHEAD, UNLESS):
                 return False
             for number in ([above] if kind == AGAIN else self.parts.later[part]):
-                if met[number]:
+                if leading[number]:
                     return True
                 if steps[number] != ENDS:
-                    return leads(steps[number], flags)
+                    return False
             part = above
         return part == self.target
-
-
-def leads(step, flags):
-    """Whether the target is taken behind the leaf of this step, if it is one."""
-    return step >= 0 and flags[step]

@@ -13,14 +13,10 @@ class Mark:
 class Way:
     """What all ways have in common.
 
-    Beside what it is made of, a way notes the name of its first call, None if
-    there is none, and how many Agains stand within one another in it.
+    Beside what it is made of, a way notes the name of its first call (called,
+    None if there is none), and how many Agains stand within one another in it
+    (rounds).
     """
-
-    def __init__(self, inner):
-        calls = [part.called for part in inner if part.called is not None]
-        self.called = calls[0] if calls else None
-        self.rounds = max([part.rounds for part in inner], default=0)
 
     def end_at(self, text, place, known):
         """Where the way ends that is read at the place, NOWHERE if it does not fit.
@@ -65,8 +61,9 @@ class Letter(Way):
     """Takes this letter."""
 
     def __init__(self, letter):
-        Way.__init__(self, [])
         self.letter = letter
+        self.called = None
+        self.rounds = 0
 
     def end_at(self, text, place, known):
         return place + 1 if text[place:place + 1] == self.letter else NOWHERE
@@ -76,7 +73,8 @@ class One(Way):
     """Takes one letter, whichever it is."""
 
     def __init__(self):
-        Way.__init__(self, [])
+        self.called = None
+        self.rounds = 0
 
     def end_at(self, text, place, known):
         return place + 1 if place < len(text) else NOWHERE
@@ -86,7 +84,8 @@ class Nothing(Way):
     """Fits always and takes nothing."""
 
     def __init__(self):
-        Way.__init__(self, [])
+        self.called = None
+        self.rounds = 0
 
     def end_at(self, text, place, known):
         return place
@@ -97,7 +96,8 @@ class Row(Way):
 
     def __init__(self, ways):
         self.ways = tuple(ways)
-        Way.__init__(self, self.ways)
+        self.called = first_call(self.ways)
+        self.rounds = most_rounds(self.ways)
 
     def end_at(self, text, place, known):
         for part in self.ways:
@@ -112,7 +112,8 @@ class Choice(Way):
 
     def __init__(self, ways):
         self.ways = tuple(ways)
-        Way.__init__(self, self.ways)
+        self.called = first_call(self.ways)
+        self.rounds = most_rounds(self.ways)
 
     def end_at(self, text, place, known):
         for part in self.ways:
@@ -126,8 +127,8 @@ class Again(Way):
     """Its part as often as it fits and takes letters."""
 
     def __init__(self, part):
-        Way.__init__(self, [part])
         self.part = part
+        self.called = part.called
         self.rounds = part.rounds + 1
         self.mark = Mark()
 
@@ -165,8 +166,9 @@ class Maybe(Way):
     """Its part if it fits, or else nothing."""
 
     def __init__(self, part):
-        Way.__init__(self, [part])
         self.part = part
+        self.called = part.called
+        self.rounds = part.rounds
 
     def end_at(self, text, place, known):
         end = self.part.end_at(text, place, known)
@@ -177,8 +179,9 @@ class Ahead(Way):
     """Fits where its part fits, and takes nothing."""
 
     def __init__(self, part):
-        Way.__init__(self, [part])
         self.part = part
+        self.called = part.called
+        self.rounds = part.rounds
 
     def end_at(self, text, place, known):
         return NOWHERE if self.part.end_at(text, place, known) == NOWHERE else place
@@ -188,8 +191,9 @@ class Unless(Way):
     """Fits where its part does not fit, and takes nothing."""
 
     def __init__(self, part):
-        Way.__init__(self, [part])
         self.part = part
+        self.called = part.called
+        self.rounds = part.rounds
 
     def end_at(self, text, place, known):
         return place if self.part.end_at(text, place, known) == NOWHERE else NOWHERE
@@ -199,9 +203,20 @@ class Call(Way):
     """Stands for the way of the rule with this name."""
 
     def __init__(self, name):
-        Way.__init__(self, [])
         self.name = name
         self.called = name
+        self.rounds = 0
+
+
+def first_call(ways):
+    """The name of the first call in these ways, None if there is none."""
+    calls = [way.called for way in ways if way.called is not None]
+    return calls[0] if calls else None
+
+
+def most_rounds(ways):
+    """How many Agains stand within one another in one of these ways."""
+    return max([way.rounds for way in ways], default=0)
 
 
 def kind_of(way):
