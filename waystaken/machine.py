@@ -71,7 +71,7 @@ class Groups:
         layer = [("", pair)]
         while True:
             longer = []
-            for word, (one, other) in layer:
+            for word, (one, other) in list(layer):
                 if self.worths[one] != self.worths[other]:
                     return word, (one, other)
                 for letter, further in self.turns_of((one, other)):
