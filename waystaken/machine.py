@@ -128,7 +128,7 @@ class Runs:
             self.many += 1
             self.last = layer[0]
             behind = []
-            for pair in layer:
+            for pair in list(layer):
                 for letter, further in self.turns[pair]:
                     arrivals[further] -= 1
                     if arrivals[further] == 0:
