@@ -163,7 +163,7 @@ class Runs:
         layer = [("", start)]
         for _ in range(most):
             longer = []
-            for word, pair in layer:
+            for word, pair in list(layer):
                 for letter, further in self.turns[pair]:
                     if further == start:
                         return letter + word
