@@ -24,7 +24,7 @@ def first_text(signs, begun, grown):
         # Letters first, then the texts behind them in their order: so each
         # node is met by the first one of its texts, and these come in order.
         for letter in signs:
-            for node, text in layer:
+            for node, text in list(layer):
                 for shown, other in grown(letter, node):
                     if shown:
                         return letter + text
