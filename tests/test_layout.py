@@ -8,6 +8,9 @@ TOP = os.path.dirname(os.path.dirname(os.path.abspath(__file__)))
 PACKAGE = os.path.join(TOP, "waystaken")
 LIBRARY = {"heapq", "math", "itertools", "collections"}
 
+COMPREHENSIONS = (ast.ListComp, ast.SetComp, ast.DictComp, ast.GeneratorExp)
+CHANGERS = {"append", "clear", "extend", "insert", "pop", "remove", "reverse", "setdefault", "sort", "update"}
+
 # What the interface lists, by the files that define it.
 INTERFACE = {
     "errors": ["WayError", "BadText", "BadName", "TooMany", "NotKept", "NothingLeft", "Busy"],
@@ -39,6 +42,69 @@ def files():
                 text = file.read()
             found.append((name, text, ast.parse(text)))
     return found
+
+
+def plain_names(value):
+    """The names, fields and items that a value may be, as it stands there."""
+    if isinstance(value, ast.IfExp):
+        return plain_names(value.body) + plain_names(value.orelse)
+    if isinstance(value, ast.BoolOp):
+        return [name for choice in value.values for name in plain_names(choice)]
+    is_slice = isinstance(value, ast.Subscript) and isinstance(value.slice, ast.Slice)
+    if isinstance(value, (ast.Name, ast.Attribute, ast.Subscript)) and not is_slice:
+        return [ast.unparse(value)]
+    return []
+
+
+def walked_names(walk):
+    """What a loop walks, if it walks no copy."""
+    if isinstance(walk, ast.Call) and isinstance(walk.func, ast.Name):
+        if walk.func.id in ("enumerate", "zip", "reversed"):
+            return [name for arg in walk.args for name in walked_names(arg)]
+    if isinstance(walk, ast.Call) and isinstance(walk.func, ast.Attribute):
+        if walk.func.attr in ("items", "keys", "values"):
+            return plain_names(walk.func.value)
+    return plain_names(walk)
+
+
+def changed_names(rows):
+    """What these rows change in place: pairs of a name and its row."""
+    changed = []
+    for node in [node for row in rows for node in ast.walk(row)]:
+        if isinstance(node, ast.Call) and isinstance(node.func, ast.Attribute) and node.func.attr in CHANGERS:
+            changed.append((ast.unparse(node.func.value), node.lineno))
+        elif isinstance(node, ast.Subscript) and not isinstance(node.ctx, ast.Load):
+            changed.append((ast.unparse(node.value), node.lineno))
+        elif isinstance(node, ast.AugAssign):
+            changed.append((ast.unparse(node.target), node.lineno))
+    return changed
+
+
+def same_names(function):
+    """For each name of a function that is given another one's value: all names of this value."""
+    groups = {}
+    for node in ast.walk(function):
+        if isinstance(node, ast.Assign):
+            names = [name for value in [*node.targets, node.value] for name in plain_names(value)]
+            group = set(names).union(*[groups.get(name, set()) for name in names])
+            for name in group:
+                groups[name] = group
+    return groups
+
+
+def walked_and_changed(tree):
+    """The rows that change what a loop around them walks, as far as names tell it."""
+    rows = []
+    for function in [node for node in ast.walk(tree) if isinstance(node, ast.FunctionDef)]:
+        groups = same_names(function)
+        loops = [(node.iter, node.body) for node in ast.walk(function) if isinstance(node, ast.For)]
+        for node in ast.walk(function):
+            if isinstance(node, COMPREHENSIONS):
+                loops.extend([(part.iter, [node]) for part in node.generators])
+        for walk, body in loops:
+            walked = set().union(*[groups.get(name, {name}) for name in walked_names(walk)])
+            rows.extend([row for name, row in changed_names(body) if name in walked])
+    return sorted(set(rows))
 
 
 class LayoutTest(unittest.TestCase):
@@ -81,6 +147,28 @@ class LayoutTest(unittest.TestCase):
             self.assertTrue(free, imports)
             for name in free:
                 del imports[name]
+
+    def test_loops_do_not_change_what_they_walk(self):
+        for name, _, tree in files():
+            self.assertEqual(walked_and_changed(tree), [], name)
+
+    def test_how_loops_that_change_what_they_walk_are_told(self):
+        rows = [
+            ("for x in xs:", "xs.append(x)", True),
+            ("for x in xs:", "ys.append(x)", True),
+            ("for x in list(xs):", "ys.append(x)", False),
+            ("for x in xs[:]:", "xs.append(x)", False),
+            ("for x in xs:", "zs.append(x)", False),
+            ("for k, x in enumerate(xs):", "xs[k] = 0", True),
+            ("for k, x in xs.items():", "del ys[k]", True),
+            ("for k, x in list(xs.items()):", "ys[k] = x", False),
+            ("for x in zs or xs:", "xs += [x]", True),
+            ("for x in box.xs:", "box.xs.pop()", True),
+            ("for x in zs:", "[xs.append(y) for y in xs]", True),
+        ]
+        for head, change, told in rows:
+            text = f"def f(xs, zs, box):\n    {head}\n        {change}\n    xs = ys\n"
+            self.assertEqual(walked_and_changed(ast.parse(text)), [3] if told else [], (head, change))
 
     def test_defined_where_the_interface_lists_it(self):
         trees = {name[:-3]: tree for name, _, tree in files()}

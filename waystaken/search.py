@@ -114,7 +114,7 @@ def count_results(signs, backward, length, at_end, elsewhere):
     counts = {backward.turned("", (), at_end): 1}
     for _ in range(length):
         longer = {}
-        for (_, state), many in counts.items():
+        for (_, state), many in list(counts.items()):
             if state not in turns:
                 turns[state] = [backward.turned(letter, state, elsewhere) for letter in signs]
             for node in turns[state]:
